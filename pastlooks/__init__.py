@@ -1,0 +1,1 @@
+"""Pastlooks: questions about the rows around a moment, answered for every world."""

@@ -1,0 +1,31 @@
+"""Looking up a row among the ascending moments of one stream."""
+
+WAYS = ("at", "before", "since", "after")
+
+
+def count_before(moments, moment):
+    """How many of the ascending moments lie before the moment."""
+    low = 0
+    high = len(moments)
+    while low < high:
+        middle = (low + high) // 2
+        if moments[middle] < moment:
+            low = middle + 1
+        else:
+            high = middle
+    return low
+
+
+def row_found(moments, way, moment):
+    """The row that a look of this way finds from the moment, or None."""
+    if way == "at":
+        place = count_before(moments, moment + 1) - 1
+    elif way == "before":
+        place = count_before(moments, moment) - 1
+    elif way == "since":
+        place = count_before(moments, moment)
+    else:
+        place = count_before(moments, moment + 1)
+    if 0 <= place < len(moments):
+        return moments[place]
+    return None

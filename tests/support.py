@@ -1,0 +1,79 @@
+"""What the tests share."""
+
+import unittest
+
+from pastlooks.terms import Look, Now
+
+BIG = 10 ** 6000  # more digits than Python writes by default
+
+# Values of every built-in kind that are no names.
+NO_NAMES = [
+    "", "abcdefghijklm", "a" * 1000, "A", "aB", "a1", "1", "a b", " a", "a\n", "a_", "a.", "a-b", "\u00e9", "a\u00e9",
+    "\u0430", "\u00df", "\u02b0", b"a", b"", 0, 1, -1, BIG, True, False, None, 1.5, float("nan"), 2j, [], ["a"], (),
+    ("a",), ("a", 3), {}, {"a": 1}, set(), {"a"}, frozenset("a"), bytearray(b"a"), range(3), slice(0, 1), Ellipsis,
+    len, str, object()]
+
+# Values of every built-in kind that are no integers.
+NO_INTEGERS = [True, False, None, 1.0, 0.0, float("inf"), 2j, "", "1", b"1", [], [1], (), (1,), {}, {1}, range(1),
+               str, int, object()]
+
+
+def nested_list(depth):
+    held = []
+    for _ in range(depth):
+        held = [held]
+    return held
+
+
+def look(stream="a", moment=None, way="at", within=None):
+    return Look(stream, Now() if moment is None else moment, way, within=within)
+
+
+def deep(depth):
+    """A term of this depth: looks upon looks upon Now."""
+    term = Now()
+    for _ in range(depth - 1):
+        term = look("a", term, "since")
+    return term
+
+
+def looks(count, stream="a"):
+    """A flat term with this number of looks, each at Now: 3 * count - 1 parts."""
+    parts = [look(stream) for _ in range(count)]
+    while len(parts) > 1:
+        parts = [parts[k] | parts[k + 1] if k + 1 < len(parts) else parts[k] for k in range(0, len(parts), 2)]
+    return parts[0]
+
+
+def nows(count):
+    """A flat term of Now alone with this number of Nows: 2 * count - 1 parts."""
+    parts = [Now() for _ in range(count)]
+    while len(parts) > 1:
+        parts = [parts[k] | parts[k + 1] if k + 1 < len(parts) else parts[k] for k in range(0, len(parts), 2)]
+    return parts[0]
+
+
+class PastTest(unittest.TestCase):
+    """A test case that looks at an error's class, its attributes and their very values."""
+
+    def raises(self, kind, deed, *args, **values):
+        with self.assertRaises(kind) as caught:
+            deed(*args)
+        error = caught.exception
+        self.assertEqual(error.__class__, kind)
+        for name in values:
+            held = getattr(error, name)
+            if held is not values[name]:
+                self.assertEqual(held.__class__, values[name].__class__)
+                self.assertEqual(held, values[name])
+
+    def same(self, found, wanted):
+        """Equal, and of the same kinds: True is not 1 here."""
+        self.assertEqual(found, wanted)
+        self.assertEqual(kinds(found), kinds(wanted))
+
+
+def kinds(thing):
+    if isinstance(thing, (list, tuple)):
+        return (thing.__class__, [kinds(entry) for entry in thing])
+    return thing.__class__
