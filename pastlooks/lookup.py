@@ -29,3 +29,11 @@ def row_found(moments, way, moment):
     if 0 <= place < len(moments):
         return moments[place]
     return None
+
+
+def row_within(moments, way, within, moment):
+    """The row that a look of this way and limit finds from the moment, or None."""
+    row = row_found(moments, way, moment)
+    if row is None or within is None or abs(row - moment) <= within:
+        return row
+    return None

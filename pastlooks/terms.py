@@ -2,7 +2,7 @@
 
 from pastlooks.checks import check_limit, check_moment, check_name, is_count
 from pastlooks.errors import BadPath, BadTerm, BadWay, TooMany
-from pastlooks.lookup import WAYS, row_found
+from pastlooks.lookup import WAYS, row_within
 from pastlooks.worlds import check_world
 
 MOST_DEPTH = 12
@@ -149,12 +149,7 @@ class Look(Term):
         moment = self.moment.answer(world, now)
         if moment is None:
             return None
-        row = row_found(world[self.stream], self.way, moment)
-        if row is None:
-            return None
-        if self.within is not None and abs(row - moment) > self.within:
-            return None
-        return row
+        return row_within(world[self.stream], self.way, self.within, moment)
 
 
 class Either(Term):

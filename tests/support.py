@@ -3,6 +3,7 @@
 import unittest
 
 from pastlooks.terms import Look, Now
+from pastlooks.worlds import World
 
 BIG = 10 ** 6000  # more digits than Python writes by default
 
@@ -23,6 +24,28 @@ def nested_list(depth):
     for _ in range(depth):
         held = [held]
     return held
+
+
+def nested_tuple(depth):
+    held = ()
+    for _ in range(depth):
+        held = (held,)
+    return held
+
+
+# Things of many built-in kinds that are no papers, no partings and no rings, whatever the terms are.
+NO_PAPERS = [
+    None, True, False, 0, 1, -1, BIG, 1.5, float("nan"), 2j, "", "fine", "ring", "cases", b"fine", [], ["fine"],
+    ["ring", (0,)], ["cases", ()], (), ((),), ((), ()), ("fine", ()), ("fine", "fine"), (("fine",),), (b"fine",),
+    ("Fine",), ("fin",), ("ring",), ("ring", ()), ("ring", []), ("ring", [0]), ("ring", 0), ("ring", None),
+    ("ring", "0"), ("ring", (), ()), ("ring", (-1,)), ("ring", (None,)), ("ring", (BIG,)), ("ring", (1000,)),
+    ("cases",), ("cases", []), ("cases", ()), ("cases", None), ("cases", {}), ("cases", (), ()), ("cases", ((),)),
+    ("cases", (("fine",),) * 50), ("cases", [("fine",), ("fine",)]), ("beside",), ("beside", 1, 0),
+    ("beside", 1, 0, ()), ("beside", 1, 0, (), ()), ("beside", None, None, None), ("beside", BIG, BIG, ()),
+    ("beside", -1, -1, ()), {}, {"fine": 1}, set(), {"fine"}, frozenset(["fine"]), bytearray(b"fine"), range(3),
+    slice(0, 1), Ellipsis, NotImplemented, len, str, tuple, iter(()), (0,) * 100000, [0] * 100000, "a" * 100000,
+    nested_list(100000), nested_tuple(100000), ("cases", nested_tuple(100000)), ("ring", nested_tuple(100000)),
+    ("beside", 1, 0, nested_tuple(100000)), ("beside", nested_tuple(100000), nested_tuple(100000), ())]
 
 
 def look(stream="a", moment=None, way="at", within=None):
@@ -77,3 +100,25 @@ def kinds(thing):
     if isinstance(thing, (list, tuple)):
         return (thing.__class__, [kinds(entry) for entry in thing])
     return thing.__class__
+
+
+def random_term(source, depth, names="ab", spread=3):
+    """A term of at most this depth, with small numbers."""
+    if depth == 1:
+        return Now()
+    kind = source.randrange(8)
+    below = random_term(source, depth - 1, names, spread)
+    if kind < 2:
+        return below + source.randint(-spread, spread)
+    if kind < 5:
+        limit = source.choice([None, None, 0, 1, spread])
+        return look(source.choice(names), below, source.choice(["at", "before", "since", "after"]), limit)
+    beside = random_term(source, source.randint(1, depth - 1), names, spread)
+    if kind == 5:
+        return below | beside
+    return below.later(beside) if kind == 6 else below.earlier(beside)
+
+
+def random_world(source, most, spread, names="ab"):
+    """A world with up to that many rows of each stream, none farther than spread from 0."""
+    return World({name: source.sample(range(-spread, spread + 1), source.randint(0, most)) for name in names})

@@ -2,8 +2,11 @@
 
 import unittest
 
-from pastlooks.errors import BadRows
+from pastlooks.errors import BadRows, Unlike
+from pastlooks.facts import bound, is_ring
+from pastlooks.pieces import changes, pieces
 from pastlooks.terms import Look, Now, Stream, told
+from pastlooks.verdicts import alike, paper, parting
 from pastlooks.worlds import World
 from support import PastTest
 
@@ -37,6 +40,31 @@ class Examples(PastTest):
 
     def test_wrong_rows(self):
         self.raises(BadRows, World, {"a": [3, 3]}, name="a")
+
+    def test_pieces(self):
+        self.same(pieces(Now().earlier(Look("a", Now(), "since") - 2), World({"a": [4]})), [
+            (None, 2, "shift", 0), (3, 4, "row", 2), (5, None, "none", None)])
+
+    def test_changes(self):
+        self.same(changes(Look("a", Now(), "at"), World({"a": [2, 9]}), "a", 5), [(5, 8)])
+
+    def test_is_ring(self):
+        self.same(is_ring([(0, 1, 2), (1, 0, -3)], (1, 0)), True)
+
+    def test_bound(self):
+        self.same(bound(3, [(0, 1, 2), (1, 2, 4)], 0, 2), 6)
+
+    def test_alike(self):
+        self.same(alike(Look("a", Now() + 1, "before"), Look("a", Now(), "at")), True)
+
+    def test_parting(self):
+        one = Look("a", Now(), "at")
+        other = Look("a", Now(), "before")
+        world, now = parting(one, other)
+        self.same([len(world), one(world, now) == other(world, now)], [1, False])
+
+    def test_paper(self):
+        self.raises(Unlike, paper, Now(), Now() + 1)
 
 
 if __name__ == "__main__":
