@@ -30,10 +30,10 @@ class Bounds:
 
     def take(self, index, fact):
         """Take in one more fact, unless there is a ring already."""
-        a, b, number = fact
-        back = self.chains[b].get(a)
         if self.ring is not None:
             return
+        a, b, number = fact
+        back = self.chains[b].get(a)
         if back is not None and back[0] + number < 0:
             self.ring = (index, *back[1])
             return

@@ -32,9 +32,8 @@ def is_ring(facts, thing):
         return False
     if not all([is_count(index) and index < len(facts) for index in thing]):
         return False
-    follows = [facts[thing[-1]][1] == facts[thing[0]][0]]
-    for place in range(1, len(thing)):
-        follows.append(facts[thing[place - 1]][1] == facts[thing[place]][0])
+    # In front of the first fact stands the last one, whose place is -1.
+    follows = [facts[thing[place - 1]][1] == facts[thing[place]][0] for place in range(len(thing))]
     return all(follows) and sum([facts[index][2] for index in thing]) < 0
 
 

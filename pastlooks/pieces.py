@@ -63,8 +63,8 @@ def farthest(stretches, at, first):
     row_last = last_moment(stretches, at, first, row)
     shift = ("shift", number - first)
     shift_last = last_moment(stretches, at, first, shift)
-    # Both go equally far only if both end where they begin; then it is a row.
-    if row_last is None or shift_last == first:
+    # At a second moment one of both is wrong; if both are wrong there, it is a row.
+    if shift_last == first:
         return row, row_last
     return shift, shift_last
 

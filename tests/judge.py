@@ -159,7 +159,8 @@ def judge(end, one, other, thing, taken=()):
 
 
 WORDS = ["fine", "ring", "cases", "beside"]
-SMALL = [("fine",), ("ring", (0,)), ("ring", (0, 1)), ("ring", (1, 0)), ("ring", (2, 1, 0)), ("beside", 1, 0, ()), (), 0]
+SMALL = [("fine",), ("ring", (0,)), ("ring", (0, 1)), ("ring", (1, 0)), ("ring", (2, 1, 0)), ("beside", 1, 0, ()),
+         (), 0]
 
 
 def changed(thing):

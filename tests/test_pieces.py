@@ -5,7 +5,7 @@ import unittest
 
 from pastlooks.errors import BadMoment, BadName, BadTerm, BadWorld, TooMany
 from pastlooks.pieces import answers, changes, differences, pieces
-from pastlooks.terms import Look, Now, told
+from pastlooks.terms import Now, told
 from pastlooks.worlds import World
 from support import BIG, NO_INTEGERS, NO_NAMES, PastTest, deep, look, looks, random_term, random_world
 
@@ -160,6 +160,28 @@ class Pieces(PastTest):
         moment = look("b", way="since") + 8 | Now() - 5
         self.same(pieces(look("a", moment, "at"), world), [
             (None, 7, "row", 15), (8, 9, "row", 0), (10, 14, "row", 5), (15, 19, "row", 10), (20, None, "row", 15)])
+
+    def test_a_look_at_a_shift_that_ends(self):
+        world = World({"a": [3, 26, 28, 31], "b": [30]})
+        moment = (Now() + 10).earlier(look("b", way="since"))  # now + 10 up to 20, then 30 up to 30
+        self.same(pieces(look("a", moment), world), [
+            (None, -8, "none", None), (-7, 15, "row", 3), (16, 17, "row", 26), (18, 30, "row", 28),
+            (31, None, "none", None)])
+        self.same(pieces(look("a", moment, "after"), world), [
+            (None, -8, "row", 3), (-7, 15, "row", 26), (16, 17, "row", 28), (18, 30, "row", 31),
+            (31, None, "none", None)])
+
+    def test_looks_at_shifts_that_begin_and_end(self):
+        source = random.Random(20)
+        for _ in range(400):
+            edge = look("b", way=source.choice(["at", "before", "since", "after"]), within=source.choice([None, 3, 9]))
+            moment = (Now() + source.randint(-9, 9)).later(edge + source.randint(-9, 9))
+            moment = moment.earlier(Now() + source.randint(-9, 9)) if source.randrange(2) else moment
+            way, limit = source.choice(["at", "before", "since", "after"]), source.choice([None, None, 0, 1, 5])
+            term = look("a", moment, way, limit) | Now() + source.randint(-2, 2)
+            world = World({"a": source.sample(range(-15, 16), source.choice([3, 12, 25])),
+                           "b": source.sample(range(-15, 16), source.choice([1, 3, 6]))})
+            self.same(pieces(term, world), pieces_by_trying(term, world))
 
     def test_numbers_of_any_size(self):
         world = World({"a": [-BIG, BIG]})

@@ -163,6 +163,14 @@ class Alike(Questions):
         self.no(look("a", look("a", look("a", look(), "before"), "before"), "before") | Now(), Now(), 4)
         self.no(look("d", look("c", look("b", look()))) | Now(), Now(), 4)
 
+    def test_the_fewest_rows_wherever_they_are(self):
+        never = look(way="before", within=0)
+        # If the first look finds nothing, two or three rows are needed.
+        self.no(look() | look("c", look("b")), never, 1)
+        self.no(look("c", look("b")) | look(), never, 1)
+        self.no(look("a", look(), "before", 3) | look(way="since"), never, 1)
+        self.no(look().later(look("b")) | look("c"), never, 1)
+
     def test_later_and_earlier(self):
         self.yes(look().later(Now()) | Now(), Now())
         self.yes(look().earlier(Now()), look())
@@ -291,6 +299,13 @@ class Covers(Questions):
         self.no(look("c"), look("b", look()), 2)
         self.yes(look(), look("b", look()))
         self.no(look("e"), look("c", look("b", look())), 3)
+
+    def test_the_fewest_rows_wherever_they_are(self):
+        never = look(way="before", within=0)
+        self.no(never, look() | look("c", look("b")), 1)
+        self.no(never, look("c", look("b")) | look(), 1)
+        self.no(look("b"), look() | look("c", look("b")), 1)
+        self.no(look("a", Now() + 1, "since"), look("b").later(look("c")) | look(), 1)
 
     def test_alike_terms_cover_each_other(self):
         terms = small_terms()
