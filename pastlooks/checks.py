@@ -35,7 +35,13 @@ def check_moment(value):
         raise BadMoment(value)
 
 
+def check_bound(value):
+    """Raise BadBound unless this is an integer from 0 on."""
+    if not is_count(value):
+        raise BadBound(value)
+
+
 def check_limit(value):
     """Raise BadBound unless this is None or an integer from 0 on."""
-    if value is not None and not is_count(value):
-        raise BadBound(value)
+    if value is not None:
+        check_bound(value)

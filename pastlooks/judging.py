@@ -55,9 +55,7 @@ def is_beside_paper(case, thing, used):
 
 
 def is_row_beside(case, row, stretch):
-    """Whether these are the variable of a row and the number of a stretch of the same stream."""
+    """Whether these are the number of a stretch and the variable of a row that does not lie in it."""
     if not is_count(row) or not is_count(stretch):
         return False
-    if row >= len(case.owners) or stretch >= len(case.stretches):
-        return False
-    return case.owners[row] == case.stretches[stretch][0]
+    return stretch < len(case.stretches) and row in case.rows_beside(stretch)

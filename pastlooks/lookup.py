@@ -1,6 +1,7 @@
 """Looking up a row among the ascending moments of one stream."""
 
 WAYS = ("at", "before", "since", "after")
+BACKWARD = ("at", "before")
 
 
 def count_before(moments, moment):

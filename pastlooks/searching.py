@@ -1,9 +1,8 @@
-"""Searching papers and the worlds that show that there is none."""
+"""Searching papers, and the examples that show that there is none."""
 
 from pastlooks.bounds import Bounds
 from pastlooks.cases import beside_facts
-from pastlooks.steps import Choice, Fine
-from pastlooks.worlds import World
+from pastlooks.steps import End, Fine
 
 
 def bounded(bounds, case):
@@ -13,56 +12,52 @@ def bounded(bounds, case):
 
 def found_paper(step):
     """A paper for what lies behind this step, or None if there is none."""
-    return paper_behind(step, bounded(Bounds(), step.case))
+    return paper_behind(step, Bounds())
 
 
-def paper_behind(step, bounds):
-    """A paper for the step, whose case has these bounds, or None if there is none."""
+def paper_behind(step, above):
+    """A paper for the step, or None if there is none; above are the bounds of a case on the way to it."""
+    if isinstance(step, End):
+        return closed(step.case, above)[0]
+    bounds = bounded(above, step.case)
+    if bounds.ring is not None:
+        return ("ring", bounds.ring)
     if isinstance(step, Fine):
         return ("fine",)
-    if not isinstance(step, Choice):
-        return closed(step.case, bounds)[0]
     papers = []
-    for index, branch in enumerate(step.branches):
-        tighter = bounded(bounds, branch[0])
-        if tighter.ring is None:
-            paper = paper_behind(step.next_step(index), tighter)
-        else:
-            paper = ("ring", tighter.ring)
+    for index in range(len(step.branches)):
+        paper = paper_behind(step.next_step(index), bounds)
         if paper is None:
             return None
         papers.append(paper)
     return ("cases", tuple(papers))
 
 
-def found_example(step):
-    """A pair (world, now) that ends in an open case, with the fewest rows, or None if there is none."""
-    best = best_behind(step, bounded(Bounds(), step.case), None)
-    if best is None:
-        return None
-    case, values = best
-    rows = [(owner, values[variable]) for variable, owner in enumerate(case.owners) if owner is not None]
-    return World.of(rows), values[0]
+def open_case(step):
+    """A pair of an open case with the fewest rows and values that keep all that it says, or None if there is none."""
+    return fewest_behind(step, Bounds(), None)
 
 
-def best_behind(step, bounds, best):
+def fewest_behind(step, above, best):
     """The open case with the fewest rows and its values: best, unless one behind this step has fewer rows."""
     if best is not None and step.case.row_count() >= best[0].row_count():
         return best
-    if isinstance(step, Fine):
-        return best
-    if not isinstance(step, Choice):
-        values = closed(step.case, bounds)[1]
+    if isinstance(step, End):
+        values = closed(step.case, above)[1]
         return best if values is None else (step.case, values)
-    for index, branch in enumerate(step.branches):
-        tighter = bounded(bounds, branch[0])
-        if tighter.ring is None:
-            best = best_behind(step.next_step(index), tighter, best)
+    bounds = bounded(above, step.case)
+    if bounds.ring is not None or isinstance(step, Fine):
+        return best
+    for index in range(len(step.branches)):
+        best = fewest_behind(step.next_step(index), bounds, best)
     return best
 
 
-def closed(case, bounds):
+def closed(case, above):
     """A paper that closes the case and None, or None and values that keep all that the case says."""
+    bounds = bounded(above, case)
+    if bounds.ring is not None:
+        return ("ring", bounds.ring), None
     values = bounds.kept()
     pair = crowded(case, values)
     if pair is None:
@@ -70,12 +65,7 @@ def closed(case, bounds):
     row, stretch = pair
     papers = []
     for fact in beside_facts(case, row, stretch):
-        lower = case.with_facts([fact])
-        tighter = bounded(bounds, lower)
-        if tighter.ring is not None:
-            papers.append(("ring", tighter.ring))
-            continue
-        paper, found = closed(lower, tighter)
+        paper, found = closed(case.with_facts([fact]), bounds)
         if paper is None:
             return None, found
         papers.append(paper)
@@ -83,10 +73,10 @@ def closed(case, bounds):
 
 
 def crowded(case, values):
-    """A row and a stretch of its stream in which it lies by these values, or None."""
+    """A row and a stretch in which it lies by these values, but must not lie, or None."""
     for number, stretch in enumerate(case.stretches):
-        stream, low, high = stretch
-        for row in case.rows_of(stream):
+        low, high = stretch[1:3]
+        for row in case.rows_beside(number):
             behind_low = low is None or values[row] >= values[low[0]] + low[1]
             if behind_low and (high is None or values[row] <= values[high[0]] + high[1]):
                 return row, number

@@ -1,10 +1,10 @@
-"""Going through terms, from one choice of cases to the next one (points 26 and 28).
+"""Going through terms, from one choice of cases to the next one (points 26, 28 and 34).
 
 A step is a Choice, a Fine or an End. The functions with the name `then` get a
 case and an answer, and give the next step.
 """
 
-from pastlooks.cases import look_branches, order_branches, unequal_branches
+from pastlooks.cases import KNOWING, NOW, look_branches, on_all_rows, order_branches, unequal_branches
 from pastlooks.terms import Either, Later, Look, Now, Shift
 
 
@@ -31,15 +31,15 @@ class Fine:
 
 
 class End:
-    """A case that was gone through to its end, and that is to be closed."""
+    """A case that was gone through to its end, and that is to be closed.
 
-    def __init__(self, case):
+    The attribute span is None, or a pair of answers: how far the first one can
+    lie behind the second one in an open case.
+    """
+
+    def __init__(self, case, span):
         self.case = case
-
-
-def ended(case, answer):
-    """The end of a case, whatever the last answer was."""
-    return End(case)
+        self.span = span
 
 
 def gone(term, case, then):
@@ -105,17 +105,26 @@ def gone_both(term, case, then):
     return gone(term.first, case, from_first)
 
 
+def unequal_end(case, first, second, span):
+    """The step behind two answers that are to be the same (point 28)."""
+    if first is None and second is None:
+        return Fine(case)
+    if first is None or second is None:
+        return End(case, span)
+
+    def ended(lower, answer):
+        return End(lower, span)
+
+    return Choice(case, unequal_branches(case, first, second), ended)
+
+
 def alike_steps(one, other, case):
     """The first step of the question whether one and other are alike."""
 
     def from_one(below, first):
 
         def from_other(lower, second):
-            if first is None and second is None:
-                return Fine(lower)
-            if first is None or second is None:
-                return End(lower)
-            return Choice(lower, unequal_branches(lower, first, second), ended)
+            return unequal_end(lower, first, second, None)
 
         return gone(other, below, from_other)
 
@@ -126,7 +135,7 @@ def covers_steps(one, other, case):
     """The first step of the question whether one covers other."""
 
     def from_one(below, first):
-        return End(below) if first is None else Fine(below)
+        return End(below, None) if first is None else Fine(below)
 
     def from_other(below, second):
         if second is None:
@@ -134,3 +143,52 @@ def covers_steps(one, other, case):
         return gone(one, below, from_one)
 
     return gone(other, case, from_other)
+
+
+def lead_steps(one, other, case, then):
+    """The first step of a question about the answers where both have one; then gets both answers."""
+
+    def from_one(below, first):
+        if first is None:
+            return Fine(below)
+
+        def from_other(lower, second):
+            return Fine(lower) if second is None else then(lower, first, second)
+
+        return gone(other, below, from_other)
+
+    return gone(one, case, from_one)
+
+
+def most_steps(one, other, n, case):
+    """The first step of the question whether one minus other is at most n."""
+
+    def from_both(lower, first, second):
+        v, s = first
+        u, t = second
+        return End(lower.with_facts([(u, v, s - t - n - 1)]), None)
+
+    return lead_steps(one, other, case, from_both)
+
+
+def span_steps(one, other, case):
+    """The first step of the question how far one can lie behind other."""
+
+    def from_both(lower, first, second):
+        return End(lower, (first, second))
+
+    return lead_steps(one, other, case, from_both)
+
+
+def settled_steps(term, case):
+    """The first step of the question whether the term is settled; its ends span the wait."""
+    span = ((KNOWING, 0), (NOW, 0))
+
+    def from_known(below, first):
+
+        def from_all(lower, second):
+            return unequal_end(lower, first, second, span)
+
+        return gone(term, on_all_rows(below), from_all)
+
+    return gone(term, case, from_known)

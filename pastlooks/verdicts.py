@@ -1,11 +1,12 @@
 """Whether two terms are alike, and whether one covers the other one, for all worlds and moments."""
 
-from pastlooks.cases import Case
+from pastlooks.cases import first_case
 from pastlooks.checks import is_integer
 from pastlooks.errors import NotCovered, Unlike
+from pastlooks.examples import found_example
 from pastlooks.judging import is_paper_of
 from pastlooks.limits import check_two
-from pastlooks.searching import found_example, found_paper
+from pastlooks.searching import found_paper
 from pastlooks.steps import alike_steps, covers_steps
 from pastlooks.worlds import World
 
@@ -70,10 +71,10 @@ def is_cover_paper(one, other, thing):
 def alike_question(one, other):
     """The first step of the question whether the terms are alike, if they are within the limits."""
     check_two(one, other)
-    return alike_steps(one, other, Case([], [None], []))
+    return alike_steps(one, other, first_case())
 
 
 def covers_question(one, other):
     """The first step of the question whether one covers other, if they are within the limits."""
     check_two(one, other)
-    return covers_steps(one, other, Case([], [None], []))
+    return covers_steps(one, other, first_case())

@@ -1,7 +1,7 @@
 """A second judge of papers, for the tests of the first one.
 
-It is written down from points 25 to 30 in another way: it plays each way
-through the cases anew, from the top of the paper on, with a list that says
+It is written down from points 25 to 30 and 34 in another way: it plays each
+way through the cases anew, from the top of the paper on, with a list that says
 which case is taken at each choice.
 """
 
@@ -23,8 +23,11 @@ class Way:
         self.taken = list(taken)
         self.facts = []
         self.rows = {}  # from variables to streams
+        self.unknown = set()  # the variables of the unknown rows
         self.stretches = []
         self.variables = 1
+        self.news = ["plain"]  # what kinds of new rows there are
+        self.lateness = None
 
     def case(self, count):
         if not self.taken:
@@ -56,8 +59,9 @@ class Way:
         return other
 
     def looked(self, look, v, s):
-        known = [row for row in sorted(self.rows) if self.rows[row] == look.stream]
-        case = self.case(2 + len(known))
+        before = [row for row in sorted(self.rows) if self.rows[row] == look.stream]
+        case = self.case(1 + len(before) + len(self.news))
+        known_only = self.news == ["known"]
         w = look.within
         if case == 0:
             low, high = {
@@ -65,26 +69,35 @@ class Way:
                 "before": (None if w is None else (v, s - w), (v, s - 1)),
                 "since": ((v, s), None if w is None else (v, s + w)),
                 "after": ((v, s + 1), None if w is None else (v, s + w))}[look.way]
-            self.stretches.append((look.stream, low, high))
+            self.stretches.append((look.stream, low, high, known_only))
             return None
-        if case <= len(known):
-            x = known[case - 1]
+        if case <= len(before):
+            x = before[case - 1]
         else:
             x = self.variables
             self.variables += 1
             self.rows[x] = look.stream
+            kind = self.news[case - len(before) - 1]
+            if kind == "known":
+                self.facts.append((x, 1, 0))
+            elif kind == "unknown":
+                self.unknown.add(x)
+                self.facts.append((1, x, self.lateness[look.stream] - 1))
         self.facts.append({"at": (x, v, s), "before": (x, v, s - 1), "since": (v, x, -s),
                            "after": (v, x, -s - 1)}[look.way])
         if w is not None:
             self.facts.append((v, x, w - s) if look.way in ("at", "before") else (x, v, s + w))
         low, high = {"at": ((x, 1), (v, s)), "before": ((x, 1), (v, s - 1)), "since": ((v, s), (x, -1)),
                      "after": ((v, s + 1), (x, -1))}[look.way]
-        self.stretches.append((look.stream, low, high))
+        self.stretches.append((look.stream, low, high, known_only))
         return x, 0
 
 
 def alike_end(way, one, other):
-    first, second = way.answer(one), way.answer(other)
+    return compared(way, way.answer(one), way.answer(other))
+
+
+def compared(way, first, second):
     if first is None and second is None:
         return "fine"
     if first is not None and second is not None:
@@ -97,6 +110,32 @@ def covers_end(way, one, other):
     if way.answer(other) is None:
         return "fine"
     return "end" if way.answer(one) is None else "fine"
+
+
+def most_end(n):
+    def end(way, one, other):
+        first = way.answer(one)
+        second = None if first is None else way.answer(other)
+        if second is None:
+            return "fine"
+        (v, s), (u, t) = first, second
+        way.facts.append((u, v, s - t - n - 1))
+        return "end"
+
+    return end
+
+
+def settled_end(lateness, wait):
+    def end(way, term, again):
+        way.variables = 2
+        way.facts.append((0, 1, -wait))
+        way.lateness = lateness
+        way.news = ["known"]
+        first = way.answer(term)
+        way.news = ["known", "unknown"]
+        return compared(way, first, way.answer(again))
+
+    return end
 
 
 def outcome(end, one, other, taken):
@@ -136,7 +175,9 @@ def is_beside(way, facts, pairs, thing):
         return False
     if not 0 <= stretch < len(way.stretches) or (row, stretch) in pairs:
         return False
-    stream, low, high = way.stretches[stretch]
+    stream, low, high, known_only = way.stretches[stretch]
+    if known_only and row in way.unknown:
+        return False
     added = [] if low is None else [(row, low[0], low[1] - 1)]
     added += [] if high is None else [(high[0], row, -high[1] - 1)]
     if way.rows[row] != stream or papers.__class__ is not tuple or len(papers) != len(added):
@@ -156,6 +197,30 @@ def judge(end, one, other, thing, taken=()):
     if not is_tuple(thing, "cases", 2) or thing[1].__class__ is not tuple or len(thing[1]) != what:
         return False
     return all(judge(end, one, other, paper, (*taken, case)) for case, paper in enumerate(thing[1]))
+
+
+FINE = ("fine",)
+
+
+def cases(*papers):
+    return ("cases", papers)
+
+
+def ring(*indexes):
+    return ("ring", indexes)
+
+
+def beside(row, stretch, *papers):
+    return ("beside", row, stretch, papers)
+
+
+def with_paper(thing, path, paper_there):
+    """The paper with another one behind the cases of this path."""
+    if not path:
+        return paper_there
+    papers = list(thing[1])
+    papers[path[0]] = with_paper(papers[path[0]], path[1:], paper_there)
+    return cases(*papers)
 
 
 WORDS = ["fine", "ring", "cases", "beside"]

@@ -1,11 +1,13 @@
 """What the tests share."""
 
+import itertools
 import unittest
 
 from pastlooks.terms import Look, Now
 from pastlooks.worlds import World
 
 BIG = 10 ** 6000  # more digits than Python writes by default
+WAYS = ["at", "before", "since", "after"]
 
 # Values of every built-in kind that are no names.
 NO_NAMES = [
@@ -17,6 +19,12 @@ NO_NAMES = [
 # Values of every built-in kind that are no integers.
 NO_INTEGERS = [True, False, None, 1.0, 0.0, float("inf"), 2j, "", "1", b"1", [], [1], (), (1,), {}, {1}, range(1),
                str, int, object()]
+
+# Values of every built-in kind that are no integers from 0 on.
+NO_COUNTS = [-1, -2, -BIG, *NO_INTEGERS]
+
+NO_TERMS = [None, 0, 1, True, "now", b"", [], [Now()], (), {}, set(), World(), Now, object(), len]
+NO_WORLDS = [None, 0, 1, True, "a", b"", [], [("a", 1)], (), {}, {"a": [1]}, set(), Now(), World, object()]
 
 
 def nested_list(depth):
@@ -122,3 +130,34 @@ def random_term(source, depth, names="ab", spread=3):
 def random_world(source, most, spread, names="ab"):
     """A world with up to that many rows of each stream, none farther than spread from 0."""
     return World({name: source.sample(range(-spread, spread + 1), source.randint(0, most)) for name in names})
+
+
+def worlds(names, most, spread):
+    """All worlds of these streams with at most that many rows, none farther than spread from 0, the smallest first."""
+    rows = [(name, moment) for name in names for moment in range(-spread, spread + 1)]
+    for count in range(most + 1):
+        for chosen in itertools.combinations(rows, count):
+            yield World.of(list(chosen))
+
+
+def random_pair(source, depth, names="ab"):
+    """Two terms within the limits, often alike or nearly so."""
+    while True:
+        one = random_term(source, source.randint(1, depth), names, 2)
+        other = one if source.randrange(3) == 0 else random_term(source, source.randint(1, depth), names, 2)
+        if source.randrange(4) == 0:
+            other = other | one if source.randrange(2) else one.earlier(other)
+        if one.looks + other.looks <= 4 and one.choices + other.choices <= 6:
+            return one, other
+
+
+def small_terms():
+    """Many small terms of one stream."""
+    below = [Now(), Now() + 1]
+    single = [look("a", moment, way, within) for moment in below for way in WAYS for within in (None, 0, 1)]
+    pairs = [look("a", look("a", Now(), way), other) for way in WAYS for other in WAYS]
+    mixed = []
+    for way in WAYS:
+        mixed += [look(way=way) | Now(), look(way=way).later(Now()), look(way=way).earlier(Now()), look(way=way) - 1,
+                  Now() | look(way=way), look("b", way=way), look(way=way) | look(way=way, within=1)]
+    return below + [Now() - 1] + single + pairs + mixed

@@ -3,35 +3,13 @@
 import random
 import unittest
 
-from judge import alike_end, changed, covers_end, judge
+from judge import FINE, alike_end, beside, cases, changed, covers_end, judge, ring, with_paper
 from pastlooks.errors import NotCovered, Unlike
 from pastlooks.terms import Now
 from pastlooks.verdicts import alike, cover_paper, covers, is_cover_paper, is_paper, paper
 from support import BIG, NO_INTEGERS, NO_PAPERS, PastTest, look, nested_list, nested_tuple, random_term
 
-FINE = ("fine",)
 NEVER = look(way="before", within=0)
-
-
-def cases(*papers):
-    return ("cases", papers)
-
-
-def ring(*indexes):
-    return ("ring", indexes)
-
-
-def beside(row, stretch, *papers):
-    return ("beside", row, stretch, papers)
-
-
-def with_paper(thing, path, paper_there):
-    """The paper with another one behind the cases of this path."""
-    if not path:
-        return paper_there
-    papers = list(thing[1])
-    papers[path[0]] = with_paper(papers[path[0]], path[1:], paper_there)
-    return cases(*papers)
 
 
 def both(index):

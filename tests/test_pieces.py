@@ -7,10 +7,9 @@ from pastlooks.errors import BadMoment, BadName, BadTerm, BadWorld, TooMany
 from pastlooks.pieces import answers, changes, differences, pieces
 from pastlooks.terms import Now, told
 from pastlooks.worlds import World
-from support import BIG, NO_INTEGERS, NO_NAMES, PastTest, deep, look, looks, random_term, random_world
+from support import (
+    BIG, NO_INTEGERS, NO_NAMES, NO_TERMS, NO_WORLDS, PastTest, deep, look, looks, random_term, random_world)
 
-NO_TERMS = [None, 0, 1, True, "now", b"", [], [Now()], (), {}, set(), World(), Now, object(), len]
-NO_WORLDS = [None, 0, 1, True, "a", b"", [], [("a", 1)], (), {}, {"a": [1]}, set(), Now(), World, object()]
 WIDE = 60  # all changes of the random terms lie nearer to 0 than this
 
 

@@ -9,10 +9,9 @@ from pastlooks.terms import Now, told
 from pastlooks.verdicts import (
     alike, cover_paper, covers, gap, is_cover_paper, is_paper, is_parting, paper, parting)
 from pastlooks.worlds import World
-from support import BIG, NO_INTEGERS, NO_PAPERS, PastTest, look, looks, nows, random_term, random_world
-
-NO_TERMS = [None, 0, 1, True, "now", b"", [], [Now()], (), {}, set(), World(), Now, object(), len]
-WAYS = ["at", "before", "since", "after"]
+from support import (
+    BIG, NO_INTEGERS, NO_PAPERS, NO_TERMS, WAYS, PastTest, look, looks, nows, random_pair, random_world, small_terms,
+    worlds)
 
 
 def is_gap(one, other, world, now):
@@ -21,37 +20,6 @@ def is_gap(one, other, world, now):
 
 def is_difference(one, other, world, now):
     return told(one, world, now) != told(other, world, now)
-
-
-def worlds(names, most, spread):
-    """All worlds of these streams with at most that many rows, none farther than spread from 0, the smallest first."""
-    rows = [(name, moment) for name in names for moment in range(-spread, spread + 1)]
-    for count in range(most + 1):
-        for chosen in itertools.combinations(rows, count):
-            yield World.of(list(chosen))
-
-
-def random_pair(source, depth, names="ab"):
-    """Two terms within the limits, often alike or nearly so."""
-    while True:
-        one = random_term(source, source.randint(1, depth), names, 2)
-        other = one if source.randrange(3) == 0 else random_term(source, source.randint(1, depth), names, 2)
-        if source.randrange(4) == 0:
-            other = other | one if source.randrange(2) else one.earlier(other)
-        if one.looks + other.looks <= 4 and one.choices + other.choices <= 6:
-            return one, other
-
-
-def small_terms():
-    """Many small terms of one stream."""
-    below = [Now(), Now() + 1]
-    single = [look("a", moment, way, within) for moment in below for way in WAYS for within in (None, 0, 1)]
-    pairs = [look("a", look("a", Now(), way), other) for way in WAYS for other in WAYS]
-    mixed = []
-    for way in WAYS:
-        mixed += [look(way=way) | Now(), look(way=way).later(Now()), look(way=way).earlier(Now()), look(way=way) - 1,
-                  Now() | look(way=way), look("b", way=way), look(way=way) | look(way=way, within=1)]
-    return below + [Now() - 1] + single + pairs + mixed
 
 
 class Questions(PastTest):
