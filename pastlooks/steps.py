@@ -145,15 +145,15 @@ def covers_steps(one, other, case):
     return gone(other, case, from_other)
 
 
-def lead_steps(one, other, case, then):
-    """The first step of a question about the answers where both have one; then gets both answers."""
+def lead_steps(one, other, case, finish):
+    """The first step of a question about the answers where both have one; finish gets them."""
 
     def from_one(below, first):
         if first is None:
             return Fine(below)
 
         def from_other(lower, second):
-            return Fine(lower) if second is None else then(lower, first, second)
+            return Fine(lower) if second is None else finish(lower, first, second)
 
         return gone(other, below, from_other)
 

@@ -2,11 +2,15 @@
 
 import unittest
 
-from pastlooks.errors import BadRows, Unlike
+from pastlooks.errors import BadRows, BadText, Unlike
 from pastlooks.facts import bound, is_ring
+from pastlooks.leads import age, is_lead_paper, lead
+from pastlooks.leaner import leaner
 from pastlooks.pieces import changes, pieces
 from pastlooks.terms import Look, Now, Stream, told
+from pastlooks.texts import parse, spelled
 from pastlooks.verdicts import alike, paper, parting
+from pastlooks.waits import least_wait, may_know, unsettled
 from pastlooks.worlds import World
 from support import PastTest
 
@@ -65,6 +69,42 @@ class Examples(PastTest):
 
     def test_paper(self):
         self.raises(Unlike, paper, Now(), Now() + 1)
+
+    def test_age(self):
+        self.same(age(Look("a", Now(), "at", within=5)), ("most", 5))
+
+    def test_lead(self):
+        self.same(lead(Look("a", Now(), "since"), Now()), ("endless", None))
+
+    def test_is_lead_paper(self):
+        term = Look("a", Now(), "at", within=5)
+        paper = ("cases", (("fine",), ("ring", (1, 2))))
+        self.same(is_lead_paper(Now(), term, 5, paper), True)
+
+    def test_may_know(self):
+        self.same(may_know(World({"a": [1, 5]}), {"a": 2}, 6, World({"a": [1]})), True)
+
+    def test_least_wait(self):
+        self.same(least_wait(Look("a", Now(), "at"), {"a": 3}), 3)
+
+    def test_an_endless_wait(self):
+        self.assertIsNone(least_wait(Look("a", Now(), "since"), {"a": 0}))
+
+    def test_unsettled(self):
+        world, known, now, moment = unsettled(Look("a", Now(), "at"), {"a": 3}, 2)
+        self.same([len(world), len(known), moment - now], [1, 0, 2])
+
+    def test_leaner(self):
+        self.same(leaner(Look("a", Now(), "at") | Look("a", Now(), "at")), [((), 0), ((), 1)])
+
+    def test_spelled(self):
+        self.same(spelled(Look("a", Now() - 3, "at", within=5)), "last a within 5 at (now - 3)")
+
+    def test_a_text_that_ends(self):
+        self.raises(BadText, parse, "last a at later(now", place=19)
+
+    def test_a_wrong_text(self):
+        self.raises(BadText, parse, "next abc at now", place=10)
 
 
 if __name__ == "__main__":
