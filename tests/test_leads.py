@@ -153,6 +153,15 @@ class Leads(LeadTest):
         self.most(look("a", look("a", look(), "after"), "before"), look(), 0)
         self.most(look(), look("a", look("a", look(), "after"), "before"), 0)
 
+    def test_where_only_a_stretch_without_rows_says_how_far(self):
+        # The second look is gone through only if there is no row from now + 100 on, or none up to now - 100.
+        for far in (2, 100, BIG):
+            one = look("a", Now() + far, "since").earlier(Now()) | look(way="since")
+            self.most(one, Now(), far - 1)
+            other = look("a", Now() - far).later(Now()) | look()
+            self.ages(other, ("most", far - 1))
+            self.most(look(way="since"), look("a", Now() + far, "since").later(Now() + 3 * far) | Now() - far, 2 * far - 1)
+
     def test_either(self):
         self.most(look(within=3) | Now() - 9, Now(), 0)
         self.ages(look(within=3) | Now() - 9, ("most", 9))

@@ -327,6 +327,9 @@ class Places(PaperTest):
                         beside(1, 1, ENDS[0], ENDS[0]), beside(1, 0, beside(1, 0, again, again), ring(2, 0)),
                         beside(1, 1, beside(1, 0, third, ring(3, 0)), ring(2, 0))]:
             self.rejects(AT, AT, cases(NOTHING, cases(closing, *ENDS[1:])))
+        # The same for another number of the stretch; without this rule both would be papers.
+        for closing in [beside(1, 0, once, ring(2, 0)), beside(1, 0, ring(2, 1), once)]:
+            self.rejects(AT, AT, cases(cases(FINE, closing), FOUND))
         # The same pair on both sides is no matter, and neither is the other pair.
         self.accepts(AT, AT, cases(NOTHING, cases(beside(1, 0, again, again), *ENDS[1:])))
         self.rejects(AT, AT, cases(NOTHING, cases(beside(1, 0, once, once), *ENDS[1:])))
