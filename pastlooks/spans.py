@@ -31,10 +31,12 @@ def widest_behind(step, above, best):
 def widest_at(end, above, best):
     """The widest span at this end, or best if it is not wider."""
     (v, s), (u, t) = end.span
-    far = beyond_all(end.case)
-    # The fact keeps each greatest value below far as it is, and makes an endless one far.
-    capped = end.case.with_facts([(v, u, far)])
     floor = None if best == NEVER else best[1] - s + t
+    far = beyond_all(end.case)
+    if floor is not None:
+        far = max(far, floor + 1)
+    # The fact keeps each greatest value below far as it is, and makes an endless one far, which is above the floor.
+    capped = end.case.with_facts([(v, u, far)])
     most = widest(capped, above, (v, u), floor)
     if most == floor:
         return best

@@ -140,11 +140,11 @@ def worlds(names, most, spread):
             yield World.of(list(chosen))
 
 
-def random_pair(source, depth, names="ab"):
+def random_pair(source, depth, names="ab", spread=2):
     """Two terms within the limits, often alike or nearly so."""
     while True:
-        one = random_term(source, source.randint(1, depth), names, 2)
-        other = one if source.randrange(3) == 0 else random_term(source, source.randint(1, depth), names, 2)
+        one = random_term(source, source.randint(1, depth), names, spread)
+        other = one if source.randrange(3) == 0 else random_term(source, source.randint(1, depth), names, spread)
         if source.randrange(4) == 0:
             other = other | one if source.randrange(2) else one.earlier(other)
         if one.looks + other.looks <= 4 and one.choices + other.choices <= 6:

@@ -171,6 +171,17 @@ class Leads(LeadTest):
         self.most(look(within=3) | look(way="after", within=2), Now(), 2)
         self.endless(look() | Now(), look("b"))
 
+    def test_endless_behind_a_case_that_reaches_far(self):
+        # Where there is no row, one is far behind other; where there is one, it can be farther still.
+        for far in (0, 1, 2, 3, 4, 5, 6, 100, BIG):
+            self.endless(look(way="since") | Now() + far, Now())
+            self.endless((look(way="since") - 1) | Now() + far, Now())
+            self.ages(look() | Now() - far, ("endless", None))
+            self.ages(look("b", look()) | Now() - far, ("endless", None))
+            self.ages(look("a", look(within=far), "at", far) | Now() - far, ("most", far))
+            self.ages((look("b", within=far) - far) | look(), ("endless", None))
+            self.most((look(way="since") | Now() + far).earlier(Now() + 3), Now(), 3)
+
     def test_later_and_earlier(self):
         self.ages(look().later(Now() - 8), ("most", 8))
         self.ages(look().later(look("b", within=8)), ("most", 8))
@@ -222,6 +233,14 @@ class Leads(LeadTest):
         words = []
         for _ in range(400):
             words.append(self.check(*random_pair(source, 5))[0])
+        for word in ("most", "endless"):
+            self.assertGreater(words.count(word), 20, word)
+
+    def test_many_pairs_with_small_and_large_numbers(self):
+        source = random.Random(69)
+        words = []
+        for _ in range(400):
+            words.append(self.check(*random_pair(source, 5, "ab", source.choice([5, 30, 10 ** 9])))[0])
         for word in ("most", "endless"):
             self.assertGreater(words.count(word), 20, word)
 

@@ -42,12 +42,12 @@ def late_examples(term, lateness, tried, last):
                             yield len(world), moment
 
 
-def random_late(source, depth, names="ab"):
+def random_late(source, depth, names="ab", spread=2):
     """A term within the limits and a lateness."""
     while True:
-        term = random_term(source, source.randint(2, depth), names, 2)
+        term = random_term(source, source.randint(2, depth), names, spread)
         if 0 < term.looks <= 2 and term.choices <= 3:
-            return term, {name: source.choice([0, 0, 1, 2, 3]) for name in names}
+            return term, {name: source.choice([0, 0, 1, spread, spread + 1]) for name in names}
 
 
 class LateTest(PastTest):
@@ -136,6 +136,14 @@ class Waits(LateTest):
         self.waits(look().earlier(look()), both, 3)
         self.waits(look(way="before") | look(), both, 3)
 
+    def test_endless_behind_a_case_that_waits_long(self):
+        for late in (0, 1, 2, 3, 4, 5, 100, BIG):
+            self.waits(look("b") | look(way="since"), {"a": 0, "b": late}, None)
+            self.waits(look("b").later(look(way="since")), {"a": 0, "b": late}, None)
+            self.waits(look("b", Now() + late, within=late) | look(way="since", within=3), {"a": 1, "b": late}, max(
+                2 * late, 4))
+            self.waits(look(way="since", within=3) | look("b", Now() + late), {"a": 1, "b": late}, max(2 * late, 4))
+
     def test_looks_at_looks(self):
         both = {"a": 3, "b": 7}
         self.waits(look("b", look()), both, 7)
@@ -213,6 +221,14 @@ class Waits(LateTest):
         found = []
         for _ in range(300):
             found.append(self.check(*random_late(source, 5)))
+        self.assertGreater(found.count(None), 30)
+        self.assertGreater(len(found) - found.count(None) - found.count(0), 80)
+
+    def test_small_and_large_numbers(self):
+        source = random.Random(80)
+        found = []
+        for _ in range(300):
+            found.append(self.check(*random_late(source, 5, "ab", source.choice([5, 30, 10 ** 9]))))
         self.assertGreater(found.count(None), 30)
         self.assertGreater(len(found) - found.count(None) - found.count(0), 80)
 
